@@ -24,12 +24,7 @@ func Complete(equations []api.Rule, precedence []string, fuel int) (api.Completi
 	if e != api.OK {
 		return api.Completion{}, e
 	}
-	c, e := completionOf(equations, precedence, rules, proofs, fuel)
-	if e == api.ErrClash {
-		// The procedure has left out a critical pair that is too large.
-		e = api.ErrTooLarge
-	}
-	return c, e
+	return completionOf(equations, precedence, rules, proofs, fuel)
 }
 
 // completeError returns the error of the arguments of Complete, or OK.

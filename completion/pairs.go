@@ -96,9 +96,9 @@ type meeting struct {
 
 // meet returns the meetings of the overlaps of a, as the first rule, with b,
 // by position; that at the root only counts if root is true. It also reports
-// whether these are all of them: what is too large is left out.
-func (a *party) meet(b *party, root bool) (l []meeting, all bool) {
-	all = true
+// whether none is too large; otherwise there is no list.
+func (a *party) meet(b *party, root bool) ([]meeting, bool) {
+	var l []meeting
 	for _, p := range a.places {
 		if len(p.at) == 0 && !root {
 			continue
@@ -113,10 +113,10 @@ func (a *party) meet(b *party, root bool) (l []meeting, all bool) {
 		case api.OK:
 			l = append(l, m)
 		case api.ErrTooLarge:
-			all = false
+			return nil, false
 		}
 	}
-	return l, all
+	return l, true
 }
 
 // sameSymbol reports whether two terms that are no variables have the same

@@ -173,7 +173,9 @@ func (p *procedure) makeRule(t task) api.Errno {
 	if e := p.reduceRights(); e != api.OK {
 		return e
 	}
-	p.openMeetings()
+	if e := p.openMeetings(); e != api.OK {
+		return e
+	}
 	for _, t := range p.refused {
 		p.openTask(t)
 	}
@@ -216,31 +218,41 @@ func (p *procedure) reduceRights() api.Errno {
 
 // openMeetings makes tasks of the critical pairs of the last rule with all
 // rules.
-func (p *procedure) openMeetings() {
+func (p *procedure) openMeetings() api.Errno {
 	last := p.active[len(p.active)-1]
 	newest := partyOf(&p.laws[last].rule)
 	for _, i := range p.active {
 		other := partyOf(&p.laws[i].rule)
-		p.openPairs(last, i, &newest, &other, i != last)
-		if i != last {
-			p.openPairs(i, last, &other, &newest, false)
+		if e := p.openPairs(last, i, &newest, &other, i != last); e != api.OK {
+			return e
+		}
+		if i == last {
+			continue
+		}
+		if e := p.openPairs(i, last, &other, &newest, false); e != api.OK {
+			return e
 		}
 	}
+	return api.OK
 }
 
-// openPairs makes tasks of the critical pairs of two laws. What is too large
-// is left out: the completion is checked in the end, when the rules that lead
-// to it may be gone.
-func (p *procedure) openPairs(a, b int, first, second *party, root bool) {
-	meetings, _ := first.meet(second, root)
+// openPairs makes tasks of the critical pairs of two laws. If one of them is
+// too large, the rules would have to change much to have none; it would take
+// long to find out.
+func (p *procedure) openPairs(a, b int, first, second *party, root bool) api.Errno {
+	meetings, all := first.meet(second, root)
+	if !all {
+		return api.ErrTooLarge
+	}
 	for _, m := range meetings {
 		top, e := applied(m.unifier, first.first.Left)
 		if e != api.OK {
-			continue
+			return e
 		}
 		p.openTask(task{left: m.left, right: m.right, proof: []api.Equal{
 			{Equation: a, Back: true, Term: top},
 			{Equation: b, Position: m.at, Term: m.right},
 		}})
 	}
+	return api.OK
 }
